@@ -1,0 +1,1 @@
+"""Ownpartners: books of rows, their partners, and the books that are their own partners."""

@@ -1,0 +1,67 @@
+"""What the tests share: values of every sort, and the test of an error."""
+
+import copy
+import unittest
+
+from ownpartners import errors
+
+BORNE = {
+    errors.BadText: "at", errors.NotWhole: "at", errors.TooMany: "most", errors.NotNought: "certificate",
+    errors.NotOwn: "certificate", errors.NotFourfold: "certificate", errors.NotAlike: "certificate",
+    errors.Unkept: "claim",
+}
+
+TETRA = ("three", 4, ((1, 0, 1, 1), (0, 1, 1, 2)))
+RING = ("ring", 4, ((1, 1, 1, 1), (0, 2, 0, 2), (0, 0, 2, 2)))
+PAIRS = ("two", 4, ((1, 1, 0, 0), (0, 0, 1, 1)))
+HEXA = ("four", 6, ((1, 0, 0, 1, 2, 2), (0, 1, 0, 2, 1, 2), (0, 0, 1, 2, 2, 1)))
+BOOKS = (TETRA, RING, PAIRS, HEXA, ("two", 1, ()), ("ring", 2, ((2, 1), (0, 2))), ("four", 1, ((1,),)))
+
+
+def nested(deep):
+    value = 0
+    for _ in range(deep):
+        value = (value,)
+    return value
+
+
+# No kind, no mark, no length, no row, no tuple of rows, no book, no tuple of places and no tuple of numbers.
+JUNK = (
+    None, True, False, -1, -7, 17, 99, 10 ** 99, -10 ** 99, "", " ", "ring ", "Two", "fourfold", "\n", "0", "1", "two 2",
+    "~" * 1000, [], [0], [1, 0], [[1, 0]], ["two", 1, []], {}, {0: 1}, {"two": "two"}, (None,), (True,), (False, True),
+    (1.5,), ((),), (((),),), ([1, 0],), (-1,), (0, -1), (4,), (17,), (10 ** 99,), ("two",), ("two", 2),
+    ("two", 2, [(1, 0)]), ("two", 2, ([1, 0],)), ("two", 2, ((1, 0), None)), ("two", True, ((1,),)), ("two", 2, ((1,),)),
+    ("two", 2, ((1, 0), (1, 0))), ("two", 2, ((0, 0),)), ("two", 0, ()), ("two", 17, ()), ("ones", 2, ()),
+    ("two", 2, ((True, 0),)), ("two", 2, (), ()), (["two"], 2, ()), ("three", 2, ((2, 0),)), ("ring", 2, ((2, 1),)),
+    nested(12), [nested(11)], (None,) * 2000, [0] * 1999, {k: None for k in range(900)}, "two", (1, "0"), ("1", "0"),
+)
+
+# Whole numbers, bools and strings alone, for arguments for which some whole numbers are right.
+NO_INTEGERS = tuple(value for value in JUNK if not isinstance(value, int) or isinstance(value, bool))
+
+
+class BookCase(unittest.TestCase):
+    def assert_bears(self, error, value, function, *arguments, **named):
+        """The call raises just this error, with this very value, and changes nothing that it was passed."""
+        before = copy.deepcopy((arguments, named))
+        with self.assertRaises(errors.BookError) as caught:
+            function(*arguments, **named)
+        self.assertIs(type(caught.exception), error)
+        borne = getattr(caught.exception, BORNE.get(error, "thing"))
+        if error in BORNE:
+            self.assertEqual(borne, value)
+            self.assertIs(type(borne), type(value))
+        else:
+            self.assertIs(borne, value)
+        self.assertEqual((arguments, named), before)
+
+    def assert_bare(self, error, function, *arguments, **named):
+        """The call raises just this error, which bears nothing."""
+        with self.assertRaises(errors.BookError) as caught:
+            function(*arguments, **named)
+        self.assertIs(type(caught.exception), error)
+        self.assertEqual(vars(caught.exception), {})
+
+    def assert_is_bool(self, due, got):
+        self.assertIs(type(got), bool)
+        self.assertEqual(got, due)

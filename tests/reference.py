@@ -1,0 +1,98 @@
+"""Another way to reckon, straight from the words of the document, to judge the program by."""
+
+from itertools import product
+
+SIZES = {"two": 2, "three": 3, "four": 4, "ring": 4}
+UNITS = {"two": (1,), "three": (1, 2), "four": (1, 2, 3), "ring": (1, 3)}
+KINDS = tuple(SIZES)
+
+
+def add(kind, a, b):
+    # "four": the field of 4, with 2 for x and 3 for x + 1.
+    return a ^ b if kind == "four" else (a + b) % SIZES[kind]
+
+
+def times(kind, a, b):
+    if kind != "four":
+        return a * b % SIZES[kind]
+    found = (a if b & 1 else 0) ^ (a << 1 if b & 2 else 0)
+    return found ^ 7 if found & 4 else found
+
+
+def turned(kind, a):
+    return times(kind, a, a) if kind == "four" else a
+
+
+def add_rows(kind, x, y):
+    return tuple(add(kind, a, b) for a, b in zip(x, y))
+
+
+def times_row(kind, m, x):
+    return tuple(times(kind, m, a) for a in x)
+
+
+def meet(kind, x, y):
+    total = 0
+    for a, b in zip(x, y):
+        total = add(kind, total, times(kind, a, turned(kind, b)))
+    return total
+
+
+def weight(x):
+    return sum(1 for a in x if a != 0)
+
+
+def lee(x):
+    return sum({0: 0, 1: 1, 2: 2, 3: 1}[a] for a in x)
+
+
+def euclid(x):
+    return sum({0: 0, 1: 1, 2: 4, 3: 1}[a] for a in x)
+
+
+def all_rows(kind, n):
+    return list(product(range(SIZES[kind]), repeat=n))
+
+
+def closure(kind, n, rows):
+    """The set of the rows that some rows make."""
+    made = {(0,) * n}
+    for row in rows:
+        if row not in made:
+            multiples = {times_row(kind, m, row) for m in range(SIZES[kind])}
+            made = {add_rows(kind, x, y) for x in made for y in multiples}
+    return made
+
+
+def partner_rows(kind, n, rows):
+    """The set of all rows that meet each of some rows in 0."""
+    return {x for x in all_rows(kind, n) if all(meet(kind, x, y) == 0 for y in rows)}
+
+
+def lead_of(row):
+    """The pair (place, mark) of the lead."""
+    return next((place, mark) for place, mark in enumerate(row) if mark)
+
+
+def is_plain(kind, n, basis):
+    """Whether a tuple of rows is a plain basis, point for point as [2.2] has it."""
+    if any(not any(row) for row in basis):
+        return False
+    leads = [lead_of(row) for row in basis]
+    if any(leads[k][0] >= leads[k + 1][0] for k in range(len(basis) - 1)):
+        return False
+    if any(mark not in ((1, 2) if kind == "ring" else (1,)) for _, mark in leads):
+        return False
+    for j, (place, mark) in enumerate(leads):
+        let = (0, 1) if kind == "ring" and mark == 2 else (0,)
+        if any(basis[i][place] not in let for i in range(j)):
+            return False
+        if kind == "ring" and mark == 2:
+            if times_row(kind, 2, basis[j]) not in closure(kind, n, basis[j + 1:]):
+                return False
+    return True
+
+
+def some_rows(chance, kind, n, many):
+    """A tuple of so many rows, by a random.Random."""
+    return tuple(tuple(chance.randrange(SIZES[kind]) for _ in range(n)) for _ in range(many))

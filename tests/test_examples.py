@@ -1,0 +1,71 @@
+"""The examples of the document, as they stand there."""
+
+import unittest
+
+from ownpartners.errors import BookError
+
+EXAMPLES = {
+    "marks and rows": '''
+>>> from ownpartners.marks import inverse_of, product_of, size_of, sum_of, turned_mark, units_of
+>>> [size_of("ring"), units_of("ring"), units_of("three"), sum_of("four", 2, 3), sum_of("ring", 2, 3), product_of("four", 2, 2), product_of("ring", 2, 2), turned_mark("four", 2), turned_mark("ring", 3), inverse_of("four", 2), inverse_of("three", 2)]
+[4, (1, 3), (1, 2), 1, 1, 3, 0, 3, 3, 3, 2]
+>>> from ownpartners.rows import added, euclid_weight, lee_weight, meeting, multiple, weight_of
+>>> [added("four", (1, 2, 3), (1, 1, 1)), meeting("four", (1, 2), (2, 1)), meeting("four", (2, 1), (1, 2)), meeting("ring", (1, 2, 3), (1, 1, 2)), multiple("four", 2, (1, 2, 3)), weight_of("two", (1, 0, 1)), lee_weight((1, 2, 3, 0)), euclid_weight((1, 2, 3, 0))]
+[(0, 3, 2), 1, 1, 1, (2, 3, 1), 2, 4, 6]
+>>> meeting("three", (1, 2), (1, 0, 0))
+raises OtherLength(thing=(1, 0, 0))
+''',
+    "books": '''
+>>> from ownpartners.books import book_of, has_row, how_many, is_book, is_within, nought_book, rows_of, whole_book
+>>> TETRA = ("three", 4, ((1, 0, 1, 1), (0, 1, 1, 2)))
+>>> RING = ("ring", 4, ((1, 1, 1, 1), (0, 2, 0, 2), (0, 0, 2, 2)))
+>>> [is_book(TETRA), is_book(RING), how_many(TETRA), how_many(RING), book_of("three", 4, ((1, 1, 2, 0), (0, 2, 2, 1))) == TETRA, book_of("ring", 2, ((2, 1), (1, 3))), is_book(("two", 2, ((1, 1), (0, 1))))]
+[True, True, 9, 16, True, ('ring', 2, ((1, 0), (0, 1))), False]
+>>> [rows_of(("ring", 2, ((2, 1), (0, 2)))), has_row(RING, (3, 1, 1, 3)), has_row(RING, (3, 1, 3, 3)), is_within(nought_book("two", 3), whole_book("two", 3)), whole_book("ring", 2)]
+[((0, 0), (0, 2), (2, 1), (2, 3)), True, False, True, ('ring', 2, ((1, 0), (0, 1)))]
+>>> is_book(("ring", 2, ((2, 1),)))
+False
+''',
+}
+
+
+def told(error):
+    """An error as the document writes it."""
+    parameters = ", ".join(f"{name}={value!r}" for name, value in vars(error).items())
+    return f"raises {type(error).__name__}" + (f"({parameters})" if parameters else "")
+
+
+def answer(line, names):
+    """What a line of an example comes to, as the document writes it; None for an import or an assignment."""
+    try:
+        code = compile(line, "example", "eval")
+    except SyntaxError:
+        exec(line, names)
+        return None
+    try:
+        return repr(eval(code, names))
+    except BookError as error:
+        return told(error)
+
+
+class Examples(unittest.TestCase):
+    def test_examples(self):
+        for part, text in EXAMPLES.items():
+            names = {}
+            last = None
+            answers = 0
+            for line in text.strip().split("\n"):
+                if line.startswith(">>> "):
+                    self.assertIsNone(last, f"{part}: no answer told")
+                    last = answer(line[4:], names)
+                else:
+                    with self.subTest(part, due=line):
+                        self.assertEqual(last, line)
+                    last = None
+                    answers += 1
+            self.assertIsNone(last)
+            self.assertGreaterEqual(answers, 3)
+
+
+if __name__ == "__main__":
+    unittest.main()

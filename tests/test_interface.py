@@ -1,0 +1,40 @@
+"""That the functions stand under their names, with their parameters, in the files that list them."""
+
+import importlib
+import inspect
+import unittest
+
+INTERFACE = {
+    "marks": {
+        "size_of": "kind", "units_of": "kind", "sum_of": "kind one other", "product_of": "kind one other",
+        "turned_mark": "kind mark", "inverse_of": "kind mark",
+    },
+    "rows": {
+        "is_row": "kind thing", "added": "kind one other", "meeting": "kind one other", "multiple": "kind mark row",
+        "weight_of": "kind row", "lee_weight": "row", "euclid_weight": "row",
+    },
+    "books": {
+        "is_book": "thing", "book_of": "kind n rows", "whole_book": "kind n", "nought_book": "kind n",
+        "how_many": "book", "rows_of": "book", "has_row": "book thing", "is_within": "one other",
+    },
+}
+
+
+class Interface(unittest.TestCase):
+    def test_functions_and_parameters(self):
+        for file, functions in INTERFACE.items():
+            module = importlib.import_module(f"ownpartners.{file}")
+            for name, parameters in functions.items():
+                with self.subTest(file=file, name=name):
+                    function = getattr(module, name)
+                    self.assertTrue(inspect.isfunction(function))
+                    self.assertEqual(function.__module__, module.__name__)
+                    found = inspect.signature(function).parameters.values()
+                    self.assertEqual([parameter.name for parameter in found], parameters.split())
+                    for parameter in found:
+                        self.assertIs(parameter.kind, inspect.Parameter.POSITIONAL_OR_KEYWORD)
+                        self.assertIs(parameter.default, inspect.Parameter.empty)
+
+
+if __name__ == "__main__":
+    unittest.main()
