@@ -13,7 +13,7 @@ def is_book(thing):
     if not isinstance(thing, tuple) or len(thing) != 3:
         return False
     kind, n, basis = thing
-    if not is_kind(kind) or not is_length(n) or not isinstance(basis, tuple) or len(basis) > n:
+    if not is_kind(kind) or not is_length(n) or not isinstance(basis, tuple):
         return False
     return all(is_row_of_length(kind, n, row) for row in basis) and is_plain_basis(kind, basis)
 

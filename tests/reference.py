@@ -1,5 +1,6 @@
 """Another way to reckon, straight from the words of the document, to judge the program by."""
 
+from functools import lru_cache
 from itertools import product
 
 SIZES = {"two": 2, "three": 3, "four": 4, "ring": 4}
@@ -96,3 +97,28 @@ def is_plain(kind, n, basis):
 def some_rows(chance, kind, n, many):
     """A tuple of so many rows, by a random.Random."""
     return tuple(tuple(chance.randrange(SIZES[kind]) for _ in range(n)) for _ in range(many))
+
+
+def makers_of_all_sets(kind, n):
+    """Pairs (rows, the set that they make): each closed set, most of them many times, from rows in every order."""
+    waiting = [((), frozenset(closure(kind, n, ())))]
+    seen = {waiting[0][1]}
+    yield waiting[0]
+    while waiting:
+        rows, _ = waiting.pop()
+        for row in all_rows(kind, n):
+            makers = rows + (row,) if sum(row) % 2 else (row,) + rows
+            made = frozenset(closure(kind, n, makers))
+            yield makers, made
+            if made not in seen:
+                seen.add(made)
+                waiting.append((makers, made))
+
+
+@lru_cache(maxsize=None)
+def closed_sets(kind, n):
+    """The tuple of all closed sets of rows, each as an ascending tuple, with rows that make it: (makers, set)."""
+    found = {}
+    for makers, made in makers_of_all_sets(kind, n):
+        found.setdefault(tuple(sorted(made)), makers)
+    return tuple((makers, made) for made, makers in sorted(found.items()))

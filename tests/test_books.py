@@ -20,28 +20,12 @@ BIG = (
 )
 
 
-def makers_of_all_sets(kind, n):
-    """Pairs (rows, the set that they make): each closed set, most of them many times, from rows in every order."""
-    waiting = [((), frozenset(reference.closure(kind, n, ())))]
-    seen = {waiting[0][1]}
-    yield waiting[0]
-    while waiting:
-        rows, _ = waiting.pop()
-        for row in reference.all_rows(kind, n):
-            makers = rows + (row,) if sum(row) % 2 else (row,) + rows
-            made = frozenset(reference.closure(kind, n, makers))
-            yield makers, made
-            if made not in seen:
-                seen.add(made)
-                waiting.append((makers, made))
-
-
 class UniqueBases(BookCase):
     def test_rows_that_make_one_set_make_one_book(self):
         for (kind, n), number in CLOSED_SETS.items():
             with self.subTest(kind=kind, n=n):
                 books = {}
-                for makers, made in makers_of_all_sets(kind, n):
+                for makers, made in reference.makers_of_all_sets(kind, n):
                     book = book_of(kind, n, makers)
                     self.assertEqual(books.setdefault(made, book), book)
                 self.assertEqual(len(books), number)

@@ -17,6 +17,19 @@ INTERFACE = {
         "is_book": "thing", "book_of": "kind n rows", "whole_book": "kind n", "nought_book": "kind n",
         "how_many": "book", "rows_of": "book", "has_row": "book thing", "is_within": "one other",
     },
+    "combining": {
+        "joined": "one other", "shared": "one other", "partner_of": "book", "beside": "one other",
+        "thinned": "book places", "shortened": "book places",
+    },
+    "texts": {"text_of": "book", "read_book": "text"},
+    "counts": {
+        "counts_of": "book", "least_weight": "book", "split_counts": "book places", "lee_counts": "book",
+        "euclid_counts": "book", "mark_counts": "book",
+    },
+    "partnercounts": {
+        "column_of": "kind n weight", "partner_counts": "kind n numbers", "partner_lee_counts": "n numbers",
+        "partner_split": "kind numbers",
+    },
 }
 
 
