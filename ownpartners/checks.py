@@ -1,14 +1,22 @@
-"""What is asked of integers, kinds, lengths and places, whatever a caller passes."""
+"""What is asked of integers, kinds, lengths, places and numbers, whatever a caller passes."""
 
-from ownpartners.errors import BadKind, BadLength
+from ownpartners.errors import BadCounts, BadKind, BadLength
 from ownpartners.tables import KINDS
 
 MOST_PLACES = 16
+
+# The greatest length for which sums by weight are asked for.
+MOST_DEGREE = 48
 
 
 def is_integer(thing):
     """Whether any value is an integer; True and False are none."""
     return isinstance(thing, int) and not isinstance(thing, bool)
+
+
+def is_integer_tuple(many, thing):
+    """Whether any value is a tuple of so many integers."""
+    return isinstance(thing, tuple) and len(thing) == many and all(is_integer(number) for number in thing)
 
 
 def is_kind(thing):
@@ -40,3 +48,9 @@ def check_length(n):
     """Raises BadLength for any value that is no length."""
     if not is_length(n):
         raise BadLength(n)
+
+
+def check_integers(many, thing):
+    """Raises BadCounts for any value that is no tuple of so many integers."""
+    if not is_integer_tuple(many, thing):
+        raise BadCounts(thing)

@@ -1,6 +1,6 @@
 """What the counts of a book tell of its partner."""
 
-from ownpartners.checks import check_kind, check_length, is_integer, is_length
+from ownpartners.checks import check_kind, check_length, is_integer, is_integer_tuple, is_length
 from ownpartners.errors import BadCounts, BadNumber, NotWhole
 from ownpartners.tables import SIZES
 
@@ -26,9 +26,7 @@ def column_of(kind, n, weight):
 
 def is_number_tuple(many, thing):
     """Whether any value is a tuple of so many integers, none below 0."""
-    if not isinstance(thing, tuple) or len(thing) != many:
-        return False
-    return all(is_integer(number) and number >= 0 for number in thing)
+    return is_integer_tuple(many, thing) and all(number >= 0 for number in thing)
 
 
 def check_numbers(many, numbers):

@@ -40,6 +40,48 @@ JUNK = (
 NO_INTEGERS = tuple(value for value in JUNK if not isinstance(value, int) or isinstance(value, bool))
 
 
+def same(one, other):
+    """Whether two values are equal down to the sorts of their parts, so that True is no 1 and a list no tuple."""
+    if type(one) is not type(other):
+        return False
+    if isinstance(one, (tuple, list)):
+        return len(one) == len(other) and all(map(same, one, other))
+    return one == other
+
+
+def other_numbers(number):
+    yield from (number + 1, number - 1, -number, str(number), None, (number,))
+    if number in (0, 1):
+        yield bool(number)
+
+
+def other_words(word):
+    yield from (word + " ", word.upper(), word[:-1], [word], (word,), None, 1, "cases", "change", "clash", "nought", "own")
+
+
+def other_tuples(parts):
+    yield from (list(parts), parts + (0,), parts + parts[-1:], (parts,), None, 0, "", ())
+    for k in range(len(parts)):
+        yield parts[:k] + parts[k + 1:]
+    for k in range(1, len(parts)):
+        yield parts[:k - 1] + (parts[k], parts[k - 1]) + parts[k + 1:]
+
+
+def mutants(value):
+    """The value with one part of it changed, at every depth: left out, put in, exchanged, or replaced."""
+    if isinstance(value, bool) or value is None:
+        yield from (0, 1, None, True, False)
+    elif isinstance(value, int):
+        yield from other_numbers(value)
+    elif isinstance(value, str):
+        yield from other_words(value)
+    elif isinstance(value, tuple):
+        yield from other_tuples(value)
+        for k, part in enumerate(value):
+            for changed in mutants(part):
+                yield value[:k] + (changed,) + value[k + 1:]
+
+
 class BookCase(unittest.TestCase):
     def assert_bears(self, error, value, function, *arguments, **named):
         """The call raises just this error, with this very value, and changes nothing that it was passed."""
@@ -61,6 +103,14 @@ class BookCase(unittest.TestCase):
             function(*arguments, **named)
         self.assertIs(type(caught.exception), error)
         self.assertEqual(vars(caught.exception), {})
+
+    def check_certificate(self, error, function, book, is_right, *arguments, **named):
+        """The call raises just this error, with a certificate that is right."""
+        with self.assertRaises(errors.BookError) as caught:
+            function(book, *arguments, **named)
+        self.assertIs(type(caught.exception), error)
+        self.assertEqual(list(vars(caught.exception)), ["certificate"])
+        self.assertTrue(is_right(caught.exception.certificate), caught.exception.certificate)
 
     def assert_is_bool(self, due, got):
         self.assertIs(type(got), bool)

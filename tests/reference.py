@@ -1,7 +1,8 @@
 """Another way to reckon, straight from the words of the document, to judge the program by."""
 
+from collections import Counter
 from functools import lru_cache
-from itertools import product
+from itertools import permutations, product
 
 SIZES = {"two": 2, "three": 3, "four": 4, "ring": 4}
 UNITS = {"two": (1,), "three": (1, 2), "four": (1, 2, 3), "ring": (1, 3)}
@@ -122,3 +123,104 @@ def closed_sets(kind, n):
     for makers, made in makers_of_all_sets(kind, n):
         found.setdefault(tuple(sorted(made)), makers)
     return tuple((makers, made) for made, makers in sorted(found.items()))
+
+
+@lru_cache(maxsize=None)
+def all_changes(kind, n):
+    """The tuple of all changes."""
+    return tuple(product(permutations(range(n)), product(UNITS[kind], repeat=n)))
+
+
+def is_right_change(kind, n, thing):
+    """Whether any value is a change, sort for sort."""
+    if type(thing) is not tuple or len(thing) != 2 or any(type(part) is not tuple or len(part) != n for part in thing):
+        return False
+    if any(type(number) is not int for part in thing for number in part):
+        return False
+    return set(thing[0]) == set(range(n)) and all(factor in UNITS[kind] for factor in thing[1])
+
+
+def lead(kind, change, row):
+    """The row to which a change leads a row: each mark goes to its place."""
+    found = {change[0][i]: times(kind, change[1][i], row[i]) for i in range(len(row))}
+    return tuple(found[place] for place in range(len(row)))
+
+
+def lead_all(kind, change, rows):
+    return frozenset(lead(kind, change, row) for row in rows)
+
+
+def clashes(kind, rows, others, beginning):
+    """Whether a beginning clashes, by the joint counts as [4.3] has them."""
+    first = Counter((tuple(times(kind, f, x[i]) for i, (_, f) in enumerate(beginning)), weight(x)) for x in rows)
+    second = Counter((tuple(y[p] for p, _ in beginning), weight(y)) for y in others)
+    return first != second
+
+
+def tree(kind, n, rows, others, beginning=()):
+    """The tree of cases of a beginning; None if there is none."""
+    if clashes(kind, rows, others, beginning):
+        return "clash"
+    if len(beginning) == n:
+        return None
+    taken = {p for p, _ in beginning}
+    parts = []
+    for pair in product([p for p in range(n) if p not in taken], UNITS[kind]):
+        parts.append(tree(kind, n, rows, others, beginning + (pair,)))
+        if parts[-1] is None:
+            return None
+    return tuple(parts)
+
+
+def words(told):
+    """How many words a tree of cases has."""
+    return 1 if told == "clash" else sum(map(words, told))
+
+
+def unmet(kind, rows):
+    """Whether two of some rows, or one and itself, do not meet in 0."""
+    return any(meet(kind, x, y) != 0 for x in rows for y in rows)
+
+
+@lru_cache(maxsize=None)
+def nought_sets(kind, n):
+    """The tuple of all closed sets that meet in nought, each as an ascending tuple."""
+    first = ((0,) * n,)
+    waiting, seen = [first], {first}
+    isotropic = [x for x in all_rows(kind, n) if meet(kind, x, x) == 0]
+    while waiting:
+        rows = waiting.pop()
+        inside = set(rows)
+        for x in isotropic:
+            if x in inside or any(meet(kind, x, y) != 0 for y in rows):
+                continue
+            multiples = {times_row(kind, m, x) for m in range(SIZES[kind])}
+            made = tuple(sorted({add_rows(kind, y, z) for y in rows for z in multiples}))
+            if kind != "ring":
+                # All further rows of this set make the same one.
+                inside.update(made)
+            if made not in seen:
+                seen.add(made)
+                waiting.append(made)
+    return tuple(sorted(seen))
+
+
+@lru_cache(maxsize=None)
+def own_sets(kind, n):
+    """The tuple of the rows of all own partners: of the sets that meet in nought, those with enough rows."""
+    return tuple(rows for rows in nought_sets(kind, n) if len(rows) * len(rows) == SIZES[kind] ** n)
+
+
+def is_fourfold_set(rows):
+    return all(weight(x) % 4 == 0 for x in rows)
+
+
+def basis_of(kind, n, rows):
+    """The plain basis of a closed set, by going through its rows from the ones with the most noughts ahead."""
+    basis = ()
+    made = {(0,) * n}
+    for row in sorted(rows):
+        if row not in made and is_plain(kind, n, (row,) + basis):
+            basis = (row,) + basis
+            made = closure(kind, n, basis)
+    return basis

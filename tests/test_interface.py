@@ -30,6 +30,23 @@ INTERFACE = {
         "column_of": "kind n weight", "partner_counts": "kind n numbers", "partner_lee_counts": "n numbers",
         "partner_split": "kind numbers",
     },
+    "changes": {
+        "is_change": "kind n thing", "both_changes": "kind first second", "change_undone": "kind change",
+        "changes_number": "kind n", "led_row": "kind change row", "led": "book change",
+    },
+    "likeness": {"are_alike": "one other", "judge_alike": "one other", "alike_holds": "one other thing"},
+    "ownlikeness": {
+        "images_of": "book", "likeness_number": "book", "judge_chain": "book", "chain_holds": "book thing",
+        "is_likeness": "book thing",
+    },
+    "own": {
+        "is_nought": "thing", "is_own": "thing", "is_fourfold": "thing", "judge_nought": "book",
+        "nought_holds": "book thing", "judge_own": "book", "own_holds": "book thing", "judge_fourfold": "book",
+        "fourfold_holds": "book thing", "has_own": "family n",
+    },
+    "ownnumbers": {
+        "own_number": "family n", "through_number": "book", "fourfold_number": "book", "ring_number": "book",
+    },
 }
 
 
