@@ -98,6 +98,47 @@ True
 >>> [through_number(("two", 6, ((1, 1, 1, 1, 0, 0),))), fourfold_number(("two", 8, ())), ring_number(("two", 4, ((1, 1, 1, 1),))), ring_number(PAIRS)]
 [3, 30, 2, 0]
 ''',
+    "growing": '''
+>>> from ownpartners.growing import all_through, greatest_dimension, own_through
+>>> all_through(("two", 4, ()))
+(('two', 4, ((1, 0, 0, 1), (0, 1, 1, 0))), ('two', 4, ((1, 0, 1, 0), (0, 1, 0, 1))), ('two', 4, ((1, 1, 0, 0), (0, 0, 1, 1))))
+>>> [greatest_dimension("three", 6), own_through(("four", 2, ((1, 2),)))]
+[2, ('four', 2, ((1, 2),))]
+''',
+    "neighbours": '''
+>>> from ownpartners.neighbours import neighbour_by, neighbours_of, neighbour_number, steps_between, ways_number
+>>> PAIRS = ("two", 4, ((1, 1, 0, 0), (0, 0, 1, 1)))
+>>> neighbour_by(PAIRS, (1, 0, 1, 0))
+('two', 4, ((1, 0, 1, 0), (0, 1, 0, 1)))
+>>> neighbours_of(("four", 2, ((1, 1),)))
+(('four', 2, ((1, 2),)), ('four', 2, ((1, 3),)))
+>>> [neighbour_number("two", 8), neighbour_number("fourfold", 8), neighbour_number("three", 4), neighbour_number("four", 6), neighbour_number("three", 6)]
+[14, 7, 4, 42, 0]
+>>> FOURS, OTHERS = ("three", 4, ((1, 0, 1, 1), (0, 1, 1, 2))), ("three", 4, ((1, 0, 1, 2), (0, 1, 2, 2)))
+>>> [steps_between(FOURS, OTHERS), ways_number(FOURS, OTHERS), steps_between(PAIRS, PAIRS), ways_number(PAIRS, PAIRS)]
+[2, 4, 0, 1]
+>>> from ownpartners.neighbours import are_on_one_side, way_holds
+>>> [are_on_one_side(FOURS, OTHERS), way_holds(FOURS, OTHERS, (FOURS, OTHERS)), way_holds(PAIRS, PAIRS, (PAIRS,))]
+[True, False, True]
+''',
+    "gleason": '''
+>>> from ownpartners.gleason import told_products, judge_counts, counts_from, extreme_counts, least_bound, bar_holds
+>>> told_products("two", 8)
+((1, 0, 4, 0, 6, 0, 4, 0, 1), (0, 0, 1, 0, -2, 0, 1, 0, 0))
+>>> [judge_counts("two", 8, (1, 0, 0, 0, 14, 0, 0, 0, 1)), judge_counts("fourfold", 8, (1, 0, 0, 0, 14, 0, 0, 0, 1)), judge_counts("three", 4, (1, 0, 0, 6, 0))]
+[('sum', (1, -4)), ('sum', (1,)), ('unlike', 3, 8)]
+>>> [least_bound("four", 6), extreme_counts("four", 6), counts_from("two", 4, (1,)), extreme_counts("three", 4)]
+[4, (1, 0, 0, 0, 45, 0, 18), (1, 0, 2, 0, 1), (1, 0, 0, 8, 0)]
+>>> extreme_counts("two", 16)
+(1, 0, 0, 0, 0, 0, 112, 0, 30, 0, 112, 0, 0, 0, 0, 0, 1)
+>>> [bar_holds("two", 16, extreme_counts("two", 16), ("shadow", 0)), bar_holds("two", 2, (1, 0, 1), ("below", 1))]
+[True, False]
+''',
+    "shadows": '''
+>>> from ownpartners.shadows import shadow_of, shadow_counts, shadow_sums, in_shadow
+>>> [shadow_of(("two", 2, ((1, 1),))), shadow_counts(("two", 4, ((1, 1, 0, 0), (0, 0, 1, 1)))), shadow_sums(2, (1, 0, 1))]
+[((0, 1), (1, 0)), (0, 0, 4, 0, 0), (0, 4, 0)]
+''',
 }
 
 

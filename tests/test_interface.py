@@ -47,7 +47,32 @@ INTERFACE = {
     "ownnumbers": {
         "own_number": "family n", "through_number": "book", "fourfold_number": "book", "ring_number": "book",
     },
+    "growing": {
+        "greatest_dimension": "kind n", "grown": "book", "own_through": "book", "fourfold_through": "book",
+        "all_through": "book *most=256",
+    },
+    "neighbours": {
+        "neighbour_by": "book row", "neighbours_of": "book", "fourfold_neighbours_of": "book",
+        "are_neighbours": "one other", "steps_between": "one other", "ways_number": "one other",
+        "way_between": "one other", "way_holds": "one other thing", "neighbour_number": "family n",
+        "are_on_one_side": "one other",
+    },
+    "gleason": {
+        "told_products": "family n", "judge_counts": "family n numbers", "counts_hold": "family n numbers thing",
+        "counts_from": "family n firsts", "least_bound": "family n", "extreme_counts": "family n",
+        "judge_bar": "family n numbers", "bar_holds": "family n numbers thing",
+    },
+    "shadows": {
+        "shadow_of": "book", "shadow_counts": "book", "in_shadow": "book thing", "shadow_sums": "n numbers",
+    },
 }
+
+
+def written(parameter):
+    """A parameter as the table above has it: with a star if it is passed by name alone, and with what it is else."""
+    star = {inspect.Parameter.POSITIONAL_OR_KEYWORD: "", inspect.Parameter.KEYWORD_ONLY: "*"}[parameter.kind]
+    default = "" if parameter.default is inspect.Parameter.empty else f"={parameter.default!r}"
+    return star + parameter.name + default
 
 
 class Interface(unittest.TestCase):
@@ -60,10 +85,7 @@ class Interface(unittest.TestCase):
                     self.assertTrue(inspect.isfunction(function))
                     self.assertEqual(function.__module__, module.__name__)
                     found = inspect.signature(function).parameters.values()
-                    self.assertEqual([parameter.name for parameter in found], parameters.split())
-                    for parameter in found:
-                        self.assertIs(parameter.kind, inspect.Parameter.POSITIONAL_OR_KEYWORD)
-                        self.assertIs(parameter.default, inspect.Parameter.empty)
+                    self.assertEqual([written(parameter) for parameter in found], parameters.split())
 
 
 if __name__ == "__main__":
