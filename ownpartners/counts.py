@@ -26,6 +26,12 @@ def least_weight(book):
     return None
 
 
+def rows_of_weight(book, weight):
+    """The list of the rows of a weight, in any order; nothing is checked."""
+    kind, n, basis = book
+    return [row for row in made_rows(kind, n, basis) if row_weight(row) == weight]
+
+
 def split_counts(book, places):
     """The tuple of tuples of the numbers of the rows by their weights at some places and at the other ones."""
     check_book(book)

@@ -22,3 +22,8 @@ def check_counted_family(thing):
 def are_there(family, n):
     """Whether own partners of a family are there for a length."""
     return n % STEPS[family] == 0
+
+
+def kind_of(family):
+    """The kind of the own partners of a family."""
+    return "two" if family == "fourfold" else family

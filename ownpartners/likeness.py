@@ -5,11 +5,16 @@ from ownpartners.books import check_two_books
 from ownpartners.changes import is_change, led
 
 
+def change_between(one, other):
+    """A change that leads a book to another one of its kind and length; None if there is none. Nothing is checked."""
+    books = TwoBooks(one, other)
+    return change_from(books, first_beginning(books))
+
+
 def are_alike(one, other):
     """Whether a change leads a book to another one."""
     check_two_books(one, other)
-    books = TwoBooks(one, other)
-    return change_from(books, first_beginning(books)) is not None
+    return change_between(one, other) is not None
 
 
 def judge_alike(one, other):

@@ -139,6 +139,41 @@ True
 >>> [shadow_of(("two", 2, ((1, 1),))), shadow_counts(("two", 4, ((1, 1, 0, 0), (0, 0, 1, 1)))), shadow_sums(2, (1, 0, 1))]
 [((0, 1), (1, 0)), (0, 0, 4, 0, 0), (0, 4, 0)]
 ''',
+    "lists": '''
+>>> from ownpartners.lists import judge_list, list_holds, share_sum, whole_list, whole_sum
+>>> PAIRS = ("two", 4, ((1, 1, 0, 0), (0, 0, 1, 1)))
+>>> TETRA = ("three", 4, ((1, 0, 1, 1), (0, 1, 1, 2)))
+>>> OCTAD = ("two", 8, ((1, 0, 0, 0, 0, 1, 1, 1), (0, 1, 0, 0, 1, 0, 1, 1), (0, 0, 1, 0, 1, 1, 0, 1), (0, 0, 0, 1, 1, 1, 1, 0)))
+>>> [whole_sum("two", 4), whole_sum("three", 4), whole_sum("two", 8), share_sum((PAIRS,)), share_sum(()), share_sum((OCTAD,)), len(whole_list("two", 8))]
+[(1, 8), (1, 48), (3, 896), (1, 8), (0, 1), (1, 1344), 2]
+>>> [judge_list("two", 4, (PAIRS,)), judge_list("two", 2, ()), judge_list("three", 4, (TETRA,)), judge_list("fourfold", 8, (OCTAD,)), judge_list("two", 8, (OCTAD,))[0]]
+[('whole', (8,)), ('lacks', ('two', 2, ((1, 1),))), ('whole', (48,)), ('whole', (1344,)), 'lacks']
+>>> [list_holds("two", 4, (PAIRS, PAIRS), ("twice", 0, 1, ((0, 1, 2, 3), (1, 1, 1, 1)))), list_holds("two", 4, (PAIRS, PAIRS), ("whole", (8, 8)))]
+[True, False]
+>>> whole_sum("three", 6)
+raises NoOwn
+''',
+    "pieces": '''
+>>> from ownpartners.pieces import inner_book, is_one_piece, judge_loose, loose_holds, part_books, parts_of
+>>> TWINS = ('two', 4, ((1, 1, 0, 0), (0, 0, 1, 1)))
+>>> EIGHT = ('two', 8, ((1, 0, 0, 0, 0, 1, 1, 1), (0, 1, 0, 0, 1, 0, 1, 1), (0, 0, 1, 0, 1, 1, 0, 1), (0, 0, 0, 1, 1, 1, 1, 0)))
+>>> [parts_of(TWINS), part_books(TWINS)[1], is_one_piece(EIGHT), parts_of(('ring', 2, ((1, 1), (0, 2)))), judge_loose(TWINS, (2, 3)), loose_holds(TWINS, (0, 2), ('held', (1, 1, 1, 1))), inner_book(TWINS, (0, 2, 3)), parts_of(('three', 2, ()))]
+[((0, 1), (2, 3)), ((2, 3), ('two', 2, ((1, 1),))), True, ((0, 1),), ('loose', ('two', 2, ((1, 1),)), ('two', 2, ((1, 1),))), True, ('two', 3, ((0, 1, 1),)), ((0,), (1,))]
+''',
+    "shortrows": '''
+>>> from ownpartners.shortrows import glue_number, pairs_of, short_book, short_parts
+>>> SIX = ('two', 6, ((1, 1, 0, 0, 1, 1), (0, 0, 1, 1, 1, 1)))
+>>> EIGHT = ('two', 8, ((1, 0, 0, 0, 0, 1, 1, 1), (0, 1, 0, 0, 1, 0, 1, 1), (0, 0, 1, 0, 1, 1, 0, 1), (0, 0, 0, 1, 1, 1, 1, 0)))
+>>> [short_parts(SIX), pairs_of(SIX, (0, 1, 2, 3, 4, 5)), short_parts(EIGHT), short_parts(('two', 6, ((1, 1, 1, 1, 0, 0),))), glue_number(EIGHT), short_book(('two', 6, ((1, 1, 1, 1, 1, 1),)))]
+[(('d6', (0, 1, 2, 3, 4, 5)),), ((0, 1), (2, 3), (4, 5)), (('e8', (0, 1, 2, 3, 4, 5, 6, 7)),), (('d4', (0, 1, 2, 3)), ('single', (4,)), ('single', (5,))), 1, ('two', 6, ())]
+''',
+    "gray": '''
+>>> from ownpartners.gray import gray_holds, gray_row, gray_rows, judge_gray, row_pictured
+>>> BOOK = ('ring', 2, ((1, 1), (0, 2)))
+>>> OCTAD = ('ring', 8, ((1, 0, 0, 0, 3, 1, 2, 1), (0, 1, 0, 0, 1, 2, 3, 1), (0, 0, 1, 0, 3, 3, 3, 2), (0, 0, 0, 1, 2, 3, 1, 1)))
+>>> [gray_row((0, 1, 2, 3)), row_pictured((1, 0, 1, 1)), gray_rows(('ring', 1, ((2,),))), judge_gray(BOOK), judge_gray(OCTAD)[0], gray_holds(OCTAD, ('broken', (1, 0, 0, 0, 3, 1, 2, 1), (0, 1, 0, 0, 1, 2, 3, 1)))]
+[(0, 0, 0, 1, 1, 1, 1, 0), (3, 2), ((0, 0), (1, 1)), ('closed', ('two', 4, ((1, 0, 0, 1), (0, 1, 0, 1), (0, 0, 1, 1)))), 'broken', True]
+''',
 }
 
 

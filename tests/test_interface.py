@@ -65,6 +65,18 @@ INTERFACE = {
     "shadows": {
         "shadow_of": "book", "shadow_counts": "book", "in_shadow": "book thing", "shadow_sums": "n numbers",
     },
+    "lists": {
+        "whole_sum": "family n", "whole_list": "family n", "judge_list": "family n books",
+        "list_holds": "family n books thing", "share_sum": "books",
+    },
+    "pieces": {
+        "parts_of": "book", "part_books": "book", "is_one_piece": "book", "inner_book": "book lot",
+        "judge_loose": "book lot", "loose_holds": "book lot thing",
+    },
+    "shortrows": {"short_book": "book", "short_parts": "book", "glue_number": "book", "pairs_of": "book part"},
+    "gray": {
+        "gray_row": "row", "row_pictured": "row", "gray_rows": "book", "judge_gray": "book", "gray_holds": "book thing",
+    },
 }
 
 

@@ -20,6 +20,9 @@ BARRED = set("""register mro elements open input law version_info with_traceback
 copyright credits delattr dir eval exec exit gc globals help id importlib license locals methodcaller os quit vars
 typing enum Enum Flag Generic Protocol ABC namedtuple NamedTuple TypedDict dataclass overload contextmanager""".split())
 
+# What may be imported from elsewhere, to be called by its bare name alone.
+LIBRARY = {"math": {"gcd", "lcm", "isqrt", "comb"}, "itertools": {"combinations"}}
+
 STATEMENTS = (ast.Import, ast.Global, ast.AsyncFunctionDef, ast.AsyncFor, ast.AsyncWith, ast.AnnAssign, ast.Await)
 
 
@@ -95,6 +98,9 @@ class Language(unittest.TestCase):
         needs = {}
         for name, tree in trees().items():
             for module, names in imports(tree):
+                if module in LIBRARY:
+                    self.assertLessEqual(set(names), LIBRARY[module], name)
+                    continue
                 package, _, file = module.partition(".")
                 self.assertEqual(package, "ownpartners", name)
                 self.assertLessEqual(set(names), set(defined[file]), name)
@@ -106,6 +112,14 @@ class Language(unittest.TestCase):
             free = {name for name in left if not needs.get(name, set()) & left}
             self.assertTrue(free, left)
             left -= free
+
+    def test_what_is_imported_from_elsewhere_is_called_alone(self):
+        for name, tree in trees().items():
+            words = {word for module, names in imports(tree) if module in LIBRARY for word in names}
+            called = {id(node.func) for node in ast.walk(tree) if isinstance(node, ast.Call) and not node.keywords}
+            for node in ast.walk(tree):
+                if isinstance(node, ast.Name) and node.id in words:
+                    self.assertIn(id(node), called, f"{name}, line {node.lineno}")
 
     def test_statements_and_expressions(self):
         for name, tree in trees().items():
