@@ -17,13 +17,17 @@ def counts_of(book):
     return tuple(counts)
 
 
-def least_weight(book):
-    """The least weight of a row other than the row of noughts; None if there is no other one."""
-    counts = counts_of(book)
+def least_counted(counts):
+    """The least weight above 0 of which there are rows, by their numbers; None if there is none."""
     for weight in range(1, len(counts)):
         if counts[weight]:
             return weight
     return None
+
+
+def least_weight(book):
+    """The least weight of a row other than the row of noughts; None if there is no other one."""
+    return least_counted(counts_of(book))
 
 
 def rows_of_weight(book, weight):

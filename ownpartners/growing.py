@@ -7,8 +7,9 @@ from ownpartners.families import are_there
 from ownpartners.own import check_fourfold, check_no_ring, check_nought
 from ownpartners.ownnumbers import through_number
 from ownpartners.plainbasis import made_rows, plain_basis
+from ownpartners.residues import doubles_above, residue_below
 from ownpartners.swapping import neighbours_without, rows_beside
-from ownpartners.tables import row_meeting, row_multiple, row_weight
+from ownpartners.tables import row_meeting, row_weight
 
 
 def most_dimension(kind, n):
@@ -65,9 +66,7 @@ def grown(book):
 def ring_through(book):
     """An own partner of "ring" that has all rows of a book that meets in nought."""
     _, n, basis = book
-    remainders = plain_basis("two", [tuple([mark % 2 for mark in row]) for row in basis])
-    doubles = [row_multiple("ring", 2, row) for row in partner_of(("two", n, remainders))[2]]
-    return ("ring", n, plain_basis("ring", list(basis) + doubles))
+    return ("ring", n, plain_basis("ring", basis + doubles_above(residue_below(book))))
 
 
 def own_through(book):

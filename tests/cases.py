@@ -1,9 +1,9 @@
 """What the tests share: values of every sort, and the test of an error."""
 
-import copy
 import unittest
 
 from ownpartners import errors
+from ownpartners.desks import Desk
 
 BORNE = {
     errors.BadText: "at", errors.NotWhole: "at", errors.TooMany: "most", errors.NotNought: "certificate",
@@ -25,6 +25,9 @@ def nested(deep):
     return value
 
 
+DESK = Desk(PAIRS)
+DESK.claim(("own",))
+
 # No kind, no mark, no length, no row, no tuple of rows, no book, no tuple of places and no tuple of numbers.
 JUNK = (
     None, True, False, -1, -7, 17, 99, 10 ** 99, -10 ** 99, "", " ", "ring ", "Two", "fourfold", "\n", "0", "1", "two 2",
@@ -34,6 +37,7 @@ JUNK = (
     ("two", 2, ((1, 0), (1, 0))), ("two", 2, ((0, 0),)), ("two", 0, ()), ("two", 17, ()), ("ones", 2, ()),
     ("two", 2, ((True, 0),)), ("two", 2, (), ()), (["two"], 2, ()), ("three", 2, ((2, 0),)), ("ring", 2, ((2, 1),)),
     nested(12), [nested(11)], (None,) * 2000, [0] * 1999, {k: None for k in range(900)}, "two", (1, "0"), ("1", "0"),
+    DESK, (DESK,), [DESK], {"two": DESK}, ("two", 2, DESK), ("two", 2, (DESK,)), ("two", DESK, ()), (DESK, 2, ()),
 )
 
 # Whole numbers, bools and strings alone, for arguments for which some whole numbers are right.
@@ -47,6 +51,17 @@ def same(one, other):
     if isinstance(one, (tuple, list)):
         return len(one) == len(other) and all(map(same, one, other))
     return one == other
+
+
+def plain(value):
+    """The value anew, with desks as what can be read of them, so that it is known later if it was changed."""
+    if isinstance(value, Desk):
+        return ("desk", value.book(), value.claims(), value.undoable(), value.redoable())
+    if isinstance(value, (tuple, list)):
+        return type(value)([plain(part) for part in value])
+    if isinstance(value, dict):
+        return {key: plain(part) for key, part in value.items()}
+    return value
 
 
 def other_numbers(number):
@@ -85,7 +100,7 @@ def mutants(value):
 class BookCase(unittest.TestCase):
     def assert_bears(self, error, value, function, *arguments, **named):
         """The call raises just this error, with this very value, and changes nothing that it was passed."""
-        before = copy.deepcopy((arguments, named))
+        before = plain((arguments, named))
         with self.assertRaises(errors.BookError) as caught:
             function(*arguments, **named)
         self.assertIs(type(caught.exception), error)
@@ -95,7 +110,7 @@ class BookCase(unittest.TestCase):
             self.assertIs(type(borne), type(value))
         else:
             self.assertIs(borne, value)
-        self.assertEqual((arguments, named), before)
+        self.assertEqual(plain((arguments, named)), before)
 
     def assert_bare(self, error, function, *arguments, **named):
         """The call raises just this error, which bears nothing."""

@@ -174,6 +174,51 @@ raises NoOwn
 >>> [gray_row((0, 1, 2, 3)), row_pictured((1, 0, 1, 1)), gray_rows(('ring', 1, ((2,),))), judge_gray(BOOK), judge_gray(OCTAD)[0], gray_holds(OCTAD, ('broken', (1, 0, 0, 0, 3, 1, 2, 1), (0, 1, 0, 0, 1, 2, 3, 1)))]
 [(0, 0, 0, 1, 1, 1, 1, 0), (3, 2), ((0, 0), (1, 1)), ('closed', ('two', 4, ((1, 0, 0, 1), (0, 1, 0, 1), (0, 0, 1, 1)))), 'broken', True]
 ''',
+    "residues": '''
+>>> from ownpartners.residues import own_above, owns_above, residue, torsion
+>>> BOOK = ('ring', 2, ((1, 1), (0, 2)))
+>>> ONES = ('two', 4, ((1, 1, 1, 1),))
+>>> [residue(BOOK), torsion(BOOK), owns_above(ONES), own_above(('two', 1, ()))]
+[('two', 2, ((1, 1),)), ('two', 2, ((1, 0), (0, 1))), (('ring', 4, ((1, 1, 1, 1), (0, 2, 0, 2), (0, 0, 2, 2))), ('ring', 4, ((1, 1, 1, 3), (0, 2, 0, 2), (0, 0, 2, 2)))), ('ring', 1, ((2,),))]
+''',
+    "points": '''
+>>> from ownpartners.points import is_point, judge_meetings, judge_norms, least_norm, meetings_hold, norm, norms_hold, point_numbers, points_of
+>>> EIGHT = ('two', 8, ((1, 0, 0, 0, 0, 1, 1, 1), (0, 1, 0, 0, 1, 0, 1, 1), (0, 0, 1, 0, 1, 1, 0, 1), (0, 0, 0, 1, 1, 1, 1, 0)))
+>>> PAIR = ('two', 2, ((1, 1),))
+>>> [is_point(PAIR, (3, -1)), norm(PAIR, (3, -1)), points_of(PAIR, 2), point_numbers(PAIR, 4), point_numbers(EIGHT, 8), least_norm(('ring', 1, ((2,),)))]
+[True, 10, ((-1, -1), (-1, 1), (1, -1), (1, 1)), (1, 0, 4, 0, 4), (1, 0, 0, 0, 240, 0, 0, 0, 2160), 4]
+>>> [judge_meetings(PAIR, (1, 1)), meetings_hold(PAIR, (1, 0), ('point', (3, -1))), judge_norms(EIGHT, 4), norms_hold(PAIR, 4, ('point', (1, 1))), judge_norms(('three', 1, ()), 9)]
+[('always',), True, ('always',), True, ('always',)]
+''',
+    "blocks": '''
+>>> from ownpartners.blocks import blocks_hold, blocks_of, judge_blocks, told_number, triangle
+>>> SIX = ('two', 6, ((1, 1, 0, 0, 1, 1), (0, 0, 1, 1, 1, 1)))
+>>> EIGHT = ('two', 8, ((1, 0, 0, 0, 0, 1, 1, 1), (0, 1, 0, 0, 1, 0, 1, 1), (0, 0, 1, 0, 1, 1, 0, 1), (0, 0, 0, 1, 1, 1, 1, 0)))
+>>> [blocks_of(SIX, 4), judge_blocks(SIX, 4, 1), blocks_hold(SIX, 4, 2, ('unlike', (0, 1), (0, 2))), judge_blocks(EIGHT, 4, 3), told_number(EIGHT), triangle(EIGHT, 4, 2), judge_blocks(EIGHT, 3, 2)]
+[((0, 1, 2, 3), (0, 1, 4, 5), (2, 3, 4, 5)), ('alike', 2), True, ('alike', 1), 3, ((14,), (7, 7), (3, 4, 3)), ('alike', 0)]
+''',
+    "rests": '''
+>>> from ownpartners.rests import depth, far_holds, farthest, is_tight, judge_far, nearest, rest_counts
+>>> THREE = ('two', 3, ((1, 1, 1),))
+>>> [rest_counts(THREE), farthest(THREE), is_tight(THREE), nearest(THREE, (1, 1, 0)), depth(THREE, (1, 1, 0)), far_holds(THREE, 0, ('far', (1, 0, 0))), rest_counts(('ring', 1, ((2,),))), nearest(('ring', 1, ((2,),)), (1,))]
+[(1, 3, 0, 0), 1, True, ((1, 1, 1),), 1, True, (1, 1), ((0,), (2,))]
+''',
+    "desks": '''
+>>> from ownpartners.desks import Desk, read_desk
+>>> desk = Desk(("two", 4, ((1, 1, 0, 0), (0, 0, 1, 1))))
+>>> [desk.claim(("own",)), desk.neighbour((1, 0, 1, 0)), desk.book(), desk.undoable(), desk.text()]
+[None, None, ('two', 4, ((1, 0, 1, 0), (0, 1, 0, 1))), 2, 'book two 4\\n1010\\n0101\\nown']
+>>> [desk.lay_beside(("two", 2, ((1, 1),))), desk.book(), desk.undo(), desk.redoable(), desk.claims()]
+[None, ('two', 6, ((1, 0, 1, 0, 0, 0), (0, 1, 0, 1, 0, 0), (0, 0, 0, 0, 1, 1))), None, 1, (('own',),)]
+>>> desk.claim(("least", 3))
+raises Unkept(claim=('least', 3))
+>>> desk.put((1, 0, 0, 0))
+raises Unkept(claim=('own',))
+>>> [read_desk("book two 2\\n11\\nown\\nleast 2").claims(), read_desk("book ring 1").book()]
+[(('own',), ('least', 2)), ('ring', 1, ())]
+>>> read_desk("book two 2\\n11\\nleast 3")
+raises BadText(at=3)
+''',
 }
 
 

@@ -4,6 +4,8 @@ import importlib
 import inspect
 import unittest
 
+from ownpartners.desks import Desk
+
 INTERFACE = {
     "marks": {
         "size_of": "kind", "units_of": "kind", "sum_of": "kind one other", "product_of": "kind one other",
@@ -77,6 +79,28 @@ INTERFACE = {
     "gray": {
         "gray_row": "row", "row_pictured": "row", "gray_rows": "book", "judge_gray": "book", "gray_holds": "book thing",
     },
+    "residues": {"residue": "book", "torsion": "book", "own_above": "book", "owns_above": "book"},
+    "points": {
+        "is_point": "book thing", "norm": "book point", "point_number": "book m", "points_of": "book m",
+        "point_numbers": "book most", "least_norm": "book", "judge_meetings": "book x", "meetings_hold": "book x thing",
+        "judge_norms": "book t", "norms_hold": "book t thing",
+    },
+    "blocks": {
+        "blocks_of": "book w", "judge_blocks": "book w t", "blocks_hold": "book w t thing", "triangle": "book w t",
+        "told_number": "book",
+    },
+    "rests": {
+        "rest_counts": "book", "farthest": "book", "weights_of_partner": "book", "is_tight": "book", "depth": "book row",
+        "nearest": "book row", "are_one_rest": "book one other", "judge_far": "book r", "far_holds": "book r thing",
+    },
+    "desks": {"read_desk": "text"},
+}
+
+
+DESK = {
+    "__init__": "book", "book": "", "claims": "", "text": "", "undoable": "", "redoable": "", "copied": "",
+    "is_same": "thing", "lead": "change", "put": "row", "neighbour": "row", "turn_round": "", "lay_beside": "book",
+    "thin": "places", "shorten": "places", "claim": "claim", "release": "claim", "undo": "", "redo": "",
 }
 
 
@@ -98,6 +122,15 @@ class Interface(unittest.TestCase):
                     self.assertEqual(function.__module__, module.__name__)
                     found = inspect.signature(function).parameters.values()
                     self.assertEqual([written(parameter) for parameter in found], parameters.split())
+
+    def test_methods_stand_in_the_class_itself(self):
+        self.assertEqual((Desk.__module__, Desk.__bases__), ("ownpartners.desks", (object,)))
+        for name, parameters in DESK.items():
+            with self.subTest(name):
+                method = vars(Desk)[name]
+                self.assertTrue(inspect.isfunction(method))
+                _, *found = inspect.signature(method).parameters.values()
+                self.assertEqual([written(parameter) for parameter in found], parameters.split())
 
 
 if __name__ == "__main__":
