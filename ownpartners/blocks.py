@@ -2,18 +2,12 @@
 
 from itertools import combinations
 
-from ownpartners.checks import is_integer, is_place_tuple
+from ownpartners.checks import check_up_to, is_integer, is_place_tuple
 from ownpartners.counts import counts_of, least_counted, rows_of_weight
-from ownpartners.errors import BadNumber, NotAlike
+from ownpartners.errors import NotAlike
 from ownpartners.own import check_binary
 from ownpartners.partnercounts import partner_numbers
 from ownpartners.tables import SIZES
-
-
-def check_up_to(most, thing):
-    """Raises BadNumber for any value that is no integer from 0 to the most."""
-    if not is_integer(thing) or not 0 <= thing <= most:
-        raise BadNumber(thing)
 
 
 def check_blocks(book, w, t):
@@ -23,9 +17,14 @@ def check_blocks(book, w, t):
     check_up_to(book[1], t)
 
 
+def marked_places(row):
+    """The list of the places at which a row does not have 0."""
+    return [place for place in range(len(row)) if row[place]]
+
+
 def blocks(book, w):
     """The ascending list of the blocks of a weight; nothing is checked."""
-    return sorted([tuple([place for place in range(book[1]) if row[place]]) for row in rows_of_weight(book, w)])
+    return sorted([tuple(marked_places(row)) for row in rows_of_weight(book, w)])
 
 
 def blocks_of(book, w):
@@ -35,18 +34,20 @@ def blocks_of(book, w):
     return tuple(blocks(book, w))
 
 
-def meeting_numbers(n, found, t):
-    """The dict of the numbers of blocks that have all of a lot, by the lots of t out of n places, ascending."""
-    numbers = {lot: 0 for lot in combinations(range(n), t)}
-    for block in found:
-        for lot in combinations(list(block), t):
+def meeting_numbers(book, w, t):
+    """The dict of the numbers of blocks that have all of a lot, by the lots of t places, ascending; nothing is checked.
+    """
+    numbers = {lot: 0 for lot in combinations(range(book[1]), t)}
+    for row in rows_of_weight(book, w):
+        places = marked_places(row)
+        for lot in combinations(places, t):
             numbers[lot] += 1
     return numbers
 
 
 def meeting_certificate(book, w, t):
     """How often all lots of t places are met, or two lots that are not met equally often; nothing is checked."""
-    numbers = meeting_numbers(book[1], blocks(book, w), t)
+    numbers = meeting_numbers(book, w, t)
     first = tuple(range(t))
     for lot in numbers:
         if numbers[lot] != numbers[first]:
@@ -68,15 +69,17 @@ def is_lot(n, t, thing):
 def blocks_hold(book, w, t, thing):
     """Whether any value is a certificate that the blocks meet all lots of t places alike, or that they do not."""
     check_blocks(book, w, t)
-    n = book[1]
     if not isinstance(thing, tuple):
         return False
     if len(thing) == 2:
         return is_integer(thing[1]) and thing == meeting_certificate(book, w, t)
-    if len(thing) != 3 or thing[0] != "unlike" or not is_lot(n, t, thing[1]) or not is_lot(n, t, thing[2]):
+    if len(thing) != 3 or thing[0] != "unlike":
         return False
-    numbers = meeting_numbers(n, blocks(book, w), t)
-    return numbers[thing[1]] != numbers[thing[2]]
+    _, one, other = thing
+    if not is_lot(book[1], t, one) or not is_lot(book[1], t, other):
+        return False
+    numbers = meeting_numbers(book, w, t)
+    return numbers[one] != numbers[other]
 
 
 def met_and_missed(found, i, j):

@@ -1,6 +1,6 @@
 """What is asked of integers, kinds, lengths, places and numbers, whatever a caller passes."""
 
-from ownpartners.errors import BadCounts, BadKind, BadLength
+from ownpartners.errors import BadCounts, BadKind, BadLength, BadNumber
 from ownpartners.tables import KINDS
 
 MOST_PLACES = 16
@@ -48,6 +48,18 @@ def check_length(n):
     """Raises BadLength for any value that is no length."""
     if not is_length(n):
         raise BadLength(n)
+
+
+def check_from_nought(thing):
+    """Raises BadNumber for any value that is no integer from 0 on."""
+    if not is_integer(thing) or thing < 0:
+        raise BadNumber(thing)
+
+
+def check_up_to(most, thing):
+    """Raises BadNumber for any value that is no integer from 0 to the most."""
+    if not is_integer(thing) or not 0 <= thing <= most:
+        raise BadNumber(thing)
 
 
 def check_integers(many, thing):

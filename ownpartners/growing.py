@@ -1,8 +1,8 @@
 """Books that meet in nought made greater, up to own partners."""
 
-from ownpartners.checks import check_kind, check_length, is_integer
+from ownpartners.checks import check_from_nought, check_kind, check_length
 from ownpartners.combining import partner_of
-from ownpartners.errors import BadKind, BadNumber, NoOwn, TooMany
+from ownpartners.errors import BadKind, NoOwn, TooMany
 from ownpartners.families import are_there
 from ownpartners.own import check_fourfold, check_no_ring, check_nought
 from ownpartners.ownnumbers import through_number
@@ -110,8 +110,7 @@ def all_through(book, *, most=256):
     """The ascending tuple of all own partners that have all rows of a book."""
     check_no_ring(book)
     check_nought(book)
-    if not is_integer(most) or most < 0:
-        raise BadNumber(most)
+    check_from_nought(most)
     if through_number(book) > most:
         raise TooMany(most)
     kind, n, _ = book

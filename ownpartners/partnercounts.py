@@ -1,7 +1,7 @@
 """What the counts of a book tell of its partner."""
 
-from ownpartners.checks import check_kind, check_length, is_integer, is_integer_tuple, is_length
-from ownpartners.errors import BadCounts, BadNumber, NotWhole
+from ownpartners.checks import check_kind, check_length, check_up_to, is_integer_tuple, is_length
+from ownpartners.errors import BadCounts, NotWhole
 from ownpartners.tables import SIZES
 
 
@@ -19,8 +19,7 @@ def column_of(kind, n, weight):
     """The tuple of all K(j, weight), for j from 0 to n."""
     check_kind(kind)
     check_length(n)
-    if not is_integer(weight) or not 0 <= weight <= n:
-        raise BadNumber(weight)
+    check_up_to(n, weight)
     return column(SIZES[kind], n, weight)
 
 

@@ -1,7 +1,7 @@
 """Points of books: the tuples of integers whose remainders are rows."""
 
 from ownpartners.books import check_book, has_row
-from ownpartners.checks import is_integer, is_integer_tuple
+from ownpartners.checks import check_from_nought, is_integer, is_integer_tuple
 from ownpartners.counts import counts_of, euclid_counts, least_counted
 from ownpartners.errors import BadNumber, BadRow, OtherKind
 from ownpartners.plainbasis import made_rows
@@ -15,12 +15,6 @@ def check_pointed(book):
     check_book(book)
     if book[0] == "four":
         raise OtherKind(book)
-
-
-def check_from_nought(thing):
-    """Raises BadNumber for any value that is no integer from 0 on."""
-    if not is_integer(thing) or thing < 0:
-        raise BadNumber(thing)
 
 
 def check_integers_of(book, thing):

@@ -1,10 +1,10 @@
 """Rests: rows whose differences are in a book, how deep they lie, and what is nearest in the book."""
 
 from ownpartners.books import check_book, how_many
-from ownpartners.checks import is_integer
+from ownpartners.checks import check_from_nought
 from ownpartners.combining import partner_of
 from ownpartners.counts import counts_of, least_counted
-from ownpartners.errors import BadNumber, BadRow
+from ownpartners.errors import BadRow
 from ownpartners.partnercounts import partner_numbers
 from ownpartners.plainbasis import made_rows, makes, remainder
 from ownpartners.rows import is_row_of_length
@@ -16,12 +16,6 @@ def check_row_of(book, thing):
     kind, n, _ = book
     if not is_row_of_length(kind, n, thing):
         raise BadRow(thing)
-
-
-def check_most(thing):
-    """Raises BadNumber for any value that is no integer from 0 on."""
-    if not is_integer(thing) or thing < 0:
-        raise BadNumber(thing)
 
 
 def with_one_more(q, row):
@@ -127,7 +121,7 @@ def are_one_rest(book, one, other):
 def judge_far(book, r):
     """A row of at most the weight r for each rest, or a row that is farther than r places from all rows of a book."""
     check_book(book)
-    check_most(r)
+    check_from_nought(r)
     rows = shallowest_rows(book)
     return ("far", rows[-1]) if row_weight(rows[-1]) > r else ("within", tuple(rows))
 
@@ -146,7 +140,7 @@ def within_holds(book, r, rows):
 def far_holds(book, r, thing):
     """Whether any value is a certificate that all rows are within r places of a book, or that one is not."""
     check_book(book)
-    check_most(r)
+    check_from_nought(r)
     if not isinstance(thing, tuple) or len(thing) != 2:
         return False
     if thing[0] == "within":

@@ -26,7 +26,8 @@ NO_CLAIMS = JUNK + (
     ("least", 17), ("least", -1), ("least", True), ("least", "3"), ("least", None), ("least", (3,)), ("least", 3, 3), ["least", 3],
     ("has", ()), ("has", [1, 0]), ("has", (1, True)), ("has", (1, 4)), ("has", (0, -1)), ("has", (0,) * 17), ("has", "10"),
     ("has", (1, 0), 1), ("has", 1), ("has", None), ("has", ((1, 0),)), ("has", ("1", "0")), ("least 3",), "least 3", (None, 3),
-    (["own"],), ("fourfold", "own"), (True,), {OWN: OWN}, ("has", DESK), ("least", DESK), (DESK,))
+    (["own"],), ("Has", (1, 1, 0, 0)), ("own", (1, 1, 0, 0)), ("", (0, 0, 0, 0)), (None, (1, 1, 0, 0)), ("nought", 2), ("Least", 2),
+    ("fourfold", "own"), (True,), {OWN: OWN}, ("has", DESK), ("least", DESK), (DESK,))
 
 
 def is_kept(book, claim):

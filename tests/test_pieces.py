@@ -212,7 +212,7 @@ class Loose(BookCase):
                 self.assert_is_bool(is_loose(rows, lot), loose_holds(book, lot, claimed))
 
     def test_loose_lots_are_made_of_whole_parts(self):
-        for book, rows in some_books():
+        for book, _ in some_books():
             parts = parts_of(book)
             for lot in all_lots(book[1]):
                 due = all(set(part) <= set(lot) or not set(part) & set(lot) for part in parts)

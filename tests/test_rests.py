@@ -91,7 +91,7 @@ def is_right(book, r, thing):
 class Depths(BookCase):
     def check_book(self, book):
         kind, n, _ = book
-        found, depths = rests(book)
+        _, depths = rests(book)
         self.assertEqual(rest_counts(book), tuple(depths.count(w) for w in range(n + 1)))
         self.assertEqual(sum(rest_counts(book)) * how_many(book), reference.SIZES[kind] ** n)
         self.assertEqual(farthest(book), max(depths))
@@ -200,10 +200,9 @@ class Holds(BookCase):
 
     def test_other_rows_of_each_rest(self):
         for book, _ in small_books():
-            kind, n, _ = book
-            found, depths = rests(book)
+            found, _ = rests(book)
             chance = random.Random(str(book))
-            for r in range(n + 1):
+            for r in range(book[1] + 1):
                 chosen = {}
                 for x in chance.sample(sorted(found), len(found)):
                     if reference.weight(x) <= r or chance.random() < 0.1:
